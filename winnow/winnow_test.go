@@ -1,0 +1,150 @@
+package winnow
+
+import (
+	"strings"
+	"testing"
+
+	"winnow/api"
+)
+
+const (
+	most  = int(^uint(0) >> 1)
+	least = -most - 1
+)
+
+// texts are grammars, trees, words, choices and conditions, good ones and
+// wrong ones; each stands for each argument once.
+func texts() []string {
+	all := []string{
+		"", "S", "S=", "S=;", "S=a", "S=aS|;", "S=S;", "S=a;S=b;", "S=aB;", "S={a|B}[c];B=<b>;", "S=((((((a))))));", "S=|||||||||||;", "s=a;", "S=a;\n", "S=é;", "S=\x00;", "\xff\xfe", "Z=A;A=Z;",
+		"S(1)", "S(0aS(1))", "S(0aS(0aS(1)))", "S(0{0a,1B(0<0b,0b>)}[0c])", "S(", "S(0", ")", "(((((", "]]]]]", "S(0S(0S(0S(0",
+		"aa", "abbc", "0", "001", "2013141", "9999999999", "a,b,!c", "!", ",", "A", "-1", " ",
+	}
+	for b := 0; b < 256; b++ {
+		all = append(all, string([]byte{byte(b)}))
+	}
+	for _, n := range []int{299, 300, 301, 1999, 2000, 2001, 70000} {
+		for _, text := range []string{"a", "S", "(", "|", "0", "S(0", "S=;", "S=a|S;", "{0", ",", "!", "\x00"} {
+			whole := strings.Repeat(text, n/len(text)+1)
+			all = append(all, whole[:n])
+		}
+	}
+	return all
+}
+
+func numbers() []int {
+	return []int{least, -1, 0, 1, 5, 6, 9, 10, 9999, 10000, most}
+}
+
+// P1: every call ends, none panics, and an error comes alone.
+func TestAnyArguments(t *testing.T) {
+	all := texts()
+	for _, grammar := range all {
+		errno, place := Check(grammar)
+		if place < 0 || place > len(grammar) || errno == api.OK && place != 0 {
+			t.Errorf("P1: Check(%.40q) = %d, %d", grammar, errno, place)
+		}
+		for _, text := range all {
+			if height, e := Height(grammar, text); e != api.OK && height != 0 || e == api.OK && height < 1 {
+				t.Errorf("P1: Height(%.40q, %.40q) = %d, %d", grammar, text, height, e)
+			}
+			if tree, e := Parse(grammar, text); e != api.OK && tree != "" {
+				t.Errorf("P1: Parse(%.40q, %.40q) = %.40q, %d", grammar, text, tree, e)
+			}
+		}
+		for i, n := range numbers() {
+			text := all[(i*31+len(grammar))%len(all)]
+			for _, m := range numbers() {
+				if tree, e := Make(grammar, text, n, m); e != api.OK && tree != "" {
+					t.Errorf("P1: Make(%.40q, %.40q, %d, %d) = %.40q, %d", grammar, text, n, m, tree, e)
+				}
+				if choices, e := Recall(grammar, text, n, m); e != api.OK && choices != "" {
+					t.Errorf("P1: Recall(%.40q, %.40q, %d, %d) = %.40q, %d", grammar, text, n, m, choices, e)
+				}
+			}
+			if way, asked, why, e := Reduce(grammar, text, text, n); e != api.OK && (way != "" || asked != 0 || why != 0) {
+				t.Errorf("P1: Reduce(%.40q, %.40q, .., %d) = %.40q, %d, %d, %d", grammar, text, n, way, asked, why, e)
+			}
+		}
+	}
+}
+
+// P3: a grammar that is none is told ahead of all else, by every call.
+func TestErrorOfCheckComesFirst(t *testing.T) {
+	for _, c := range []struct {
+		grammar string
+		errno   api.Errno
+	}{
+		{strings.Repeat("S", 301), api.ErrLong}, {"", api.ErrForm}, {"S=(a];", api.ErrForm}, {"S=||||||||||;", api.ErrMany}, {"S=((((((", api.ErrDeep}, {"S=;S=;", api.ErrTwice}, {"S=Q;", api.ErrName},
+	} {
+		check, _ := Check(c.grammar)
+		height, ofHeight := Height(c.grammar, "no tree")
+		made, ofMake := Make(c.grammar, "no choices", 0, 0)
+		choices, ofRecall := Recall(c.grammar, "no tree", 0, 0)
+		tree, ofParse := Parse(c.grammar, "NO WORD")
+		way, asked, why, ofReduce := Reduce(c.grammar, "no tree", "NO CONDITION", -1)
+		for i, errno := range []api.Errno{check, ofHeight, ofMake, ofRecall, ofParse, ofReduce} {
+			if errno != c.errno {
+				t.Errorf("P3: call %d answers %d for %.20q, want %d", i, errno, c.grammar, c.errno)
+			}
+		}
+		if made+choices+tree+way != "" || height != 0 || asked != 0 || why != 0 {
+			t.Errorf("P1: an error of %.20q does not come alone", c.grammar)
+		}
+	}
+}
+
+// P3, P4: the calls hand on what rules and trees answer, which have tests of
+// their own.
+func TestCheckAndHeight(t *testing.T) {
+	if errno, place := Check("S=aB;"); errno != api.ErrName || place != 3 {
+		t.Errorf("P3: Check = %d, %d", errno, place)
+	}
+	if errno, place := Check("S={a|B}[c];B=<b>;"); errno != api.OK || place != 0 {
+		t.Errorf("P3: Check = %d, %d", errno, place)
+	}
+	if height, errno := Height("S=aS|;", "S(0aS(0aS(1)))"); height != 3 || errno != api.OK {
+		t.Errorf("P4: Height = %d, %d", height, errno)
+	}
+	if height, errno := Height("S=aS|;", "S(2)"); height != 0 || errno != api.ErrTree {
+		t.Errorf("P4: Height = %d, %d", height, errno)
+	}
+}
+
+type answer struct {
+	errno  api.Errno
+	place  int
+	height int
+	tree   api.Errno
+}
+
+func ask(grammar string, tree string) answer {
+	errno, place := Check(grammar)
+	height, ofTree := Height(grammar, tree)
+	return answer{errno, place, height, ofTree}
+}
+
+// P2: what was asked before changes nothing.
+func TestAnswersHangOnArgumentsAlone(t *testing.T) {
+	all := texts()
+	first := make([]answer, len(all))
+	for i := range all {
+		first[i] = ask(all[i], all[len(all)-1-i])
+	}
+	for round := 0; round < 3; round++ {
+		for i := len(all) - 1; i >= 0; i-- {
+			for _, between := range []int{i * round, i + 1, i * i} {
+				ask(all[between%len(all)], "S(0aS(1))")
+			}
+			if again := ask(all[i], all[len(all)-1-i]); again != first[i] {
+				t.Errorf("P2: %.40q gives %v, and gave %v", all[i], again, first[i])
+			}
+		}
+	}
+	fresh := string([]byte("S=aS|;"))
+	for n := 0; n < 100; n++ {
+		if got := ask(fresh, "S(0aS(1))"); got != (answer{api.OK, 0, 2, api.OK}) {
+			t.Fatalf("P2: the answer number %d is %v", n, got)
+		}
+	}
+}
