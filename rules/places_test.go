@@ -48,3 +48,11 @@ func TestFactors(t *testing.T) {
 		}
 	}
 }
+
+// A bracket that nothing closes ends with the text, so that who goes on from
+// Behind always gets ahead.
+func TestBehindGetsAhead(t *testing.T) {
+	if got := Behind("S=(a[b]", 2); got != 7 {
+		t.Errorf("Behind = %d, want 7", got)
+	}
+}
