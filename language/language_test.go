@@ -1,7 +1,6 @@
-// Package language: a test of the program's own files. P1 and P2 rest on it: a
-// program without package-level state, clock and random source has nothing but
-// its arguments to go by, and one without panic, map and goroutine is easy to
-// see the end of.
+// Package language: a test of the program's own files, as far as the syntax
+// shows what they use. It guards P2: a program without package-level state,
+// clock and random source has nothing but its arguments to go by.
 package language
 
 import (
