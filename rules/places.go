@@ -36,14 +36,20 @@ func Expression(grammar string, name byte) int {
 // expression that begins at a place, or None.
 func Alternative(grammar string, expression int, number int) int {
 	place := expression
-	for n := 0; n < number; n++ {
-		place = endOfAlternative(grammar, place)
-		if marks.At(grammar, place) != '|' {
-			return None
-		}
-		place++
+	for n := 0; n < number && place != None; n++ {
+		place = Next(grammar, place)
 	}
 	return place
+}
+
+// Next answers where the alternative begins that stands behind the one that
+// begins at a place, in the same expression, or None.
+func Next(grammar string, alternative int) int {
+	end := endOfAlternative(grammar, alternative)
+	if marks.At(grammar, end) != '|' {
+		return None
+	}
+	return end + 1
 }
 
 func endOfAlternative(grammar string, place int) int {

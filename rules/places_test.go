@@ -33,6 +33,17 @@ func TestAlternative(t *testing.T) {
 	}
 }
 
+func TestNext(t *testing.T) {
+	const grammar = "S=a(b|c)|[{|}|d]e|;T=|f;"
+	for _, c := range []struct{ alternative, want int }{
+		{2, 9}, {9, 18}, {18, None}, {4, 6}, {6, None}, {10, 14}, {14, None}, {11, 12}, {12, None}, {21, 22}, {22, None}, {len(grammar), None},
+	} {
+		if got := Next(grammar, c.alternative); got != c.want {
+			t.Errorf("Next(%d) = %d, want %d", c.alternative, got, c.want)
+		}
+	}
+}
+
 func TestFactors(t *testing.T) {
 	const grammar = "S=aB([c]{<d>})|;B=;"
 	for _, c := range []struct{ factor, behind int }{

@@ -3,6 +3,7 @@ package winnow
 
 import (
 	"winnow/api"
+	"winnow/making"
 	"winnow/rules"
 	"winnow/trees"
 )
@@ -22,13 +23,19 @@ func Height(grammar string, tree string) (int, api.Errno) {
 // Make makes a tree as choices tell (P5, P6).
 func Make(grammar string, choices string, height int, most int) (string, api.Errno) {
 	errno, _ := rules.Check(grammar)
-	return "", errno
+	if errno != api.OK {
+		return "", errno
+	}
+	return making.Make(grammar, choices, height, most)
 }
 
 // Recall tells the choices that make a tree (P7).
 func Recall(grammar string, tree string, height int, most int) (string, api.Errno) {
 	errno, _ := rules.Check(grammar)
-	return "", errno
+	if errno != api.OK {
+		return "", errno
+	}
+	return making.Recall(grammar, tree, height, most)
 }
 
 // Parse finds a tree of a word (P8).

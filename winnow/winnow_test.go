@@ -111,17 +111,41 @@ func TestCheckAndHeight(t *testing.T) {
 	}
 }
 
+// P5, P7: so do these calls hand on what making answers.
+func TestMakeAndRecall(t *testing.T) {
+	const grammar, tree = "S={a|B}[c];B=<b>;", "S(0{0a,1B(0<0b,0b>)}[0c])"
+	if made, errno := Make(grammar, "2013141", 2, 3); made != "S(0{0a,1B(0<0b>)}[0c])" || errno != api.OK {
+		t.Errorf("P5: Make = %q, %d", made, errno)
+	}
+	if made, errno := Make("S=S;", "", 9, 5); made != "" || errno != api.ErrHeight {
+		t.Errorf("P5: Make = %q, %d", made, errno)
+	}
+	if choices, errno := Recall(grammar, tree, 2, 5); choices != "20111" || errno != api.OK {
+		t.Errorf("P7: Recall = %q, %d", choices, errno)
+	}
+	if choices, errno := Recall(grammar, tree, 5, 1); choices != "" || errno != api.ErrHeight {
+		t.Errorf("P7: Recall = %q, %d", choices, errno)
+	}
+}
+
 type answer struct {
-	errno  api.Errno
-	place  int
-	height int
-	tree   api.Errno
+	errno    api.Errno
+	place    int
+	height   int
+	ofTree   api.Errno
+	made     string
+	ofMake   api.Errno
+	choices  string
+	ofRecall api.Errno
 }
 
 func ask(grammar string, tree string) answer {
-	errno, place := Check(grammar)
-	height, ofTree := Height(grammar, tree)
-	return answer{errno, place, height, ofTree}
+	a := answer{}
+	a.errno, a.place = Check(grammar)
+	a.height, a.ofTree = Height(grammar, tree)
+	a.made, a.ofMake = Make(grammar, "0213", 3, 3)
+	a.choices, a.ofRecall = Recall(grammar, tree, 3, 3)
+	return a
 }
 
 // P2: what was asked before changes nothing.
@@ -143,7 +167,7 @@ func TestAnswersHangOnArgumentsAlone(t *testing.T) {
 	}
 	fresh := string([]byte("S=aS|;"))
 	for n := 0; n < 100; n++ {
-		if got := ask(fresh, "S(0aS(1))"); got != (answer{api.OK, 0, 2, api.OK}) {
+		if got := ask(fresh, "S(0aS(1))"); got != (answer{api.OK, 0, 2, api.OK, "S(0aS(0aS(1)))", api.OK, "01", api.OK}) {
 			t.Fatalf("P2: the answer number %d is %v", n, got)
 		}
 	}
