@@ -4,6 +4,7 @@ package winnow
 import (
 	"winnow/api"
 	"winnow/making"
+	"winnow/parsing"
 	"winnow/rules"
 	"winnow/trees"
 )
@@ -41,7 +42,10 @@ func Recall(grammar string, tree string, height int, most int) (string, api.Errn
 // Parse finds a tree of a word (P8).
 func Parse(grammar string, word string) (string, api.Errno) {
 	errno, _ := rules.Check(grammar)
-	return "", errno
+	if errno != api.OK {
+		return "", errno
+	}
+	return parsing.Parse(grammar, word)
 }
 
 // Reduce makes a tree smaller, step by step (P9, P10).

@@ -48,7 +48,7 @@ func TestAnyArguments(t *testing.T) {
 			if height, e := Height(grammar, text); e != api.OK && height != 0 || e == api.OK && height < 1 {
 				t.Errorf("P1: Height(%.40q, %.40q) = %d, %d", grammar, text, height, e)
 			}
-			if tree, e := Parse(grammar, text); e != api.OK && tree != "" {
+			if tree, e := Parse(grammar, text); (e == api.OK) == (tree == "") {
 				t.Errorf("P1: Parse(%.40q, %.40q) = %.40q, %d", grammar, text, tree, e)
 			}
 		}
@@ -128,6 +128,21 @@ func TestMakeAndRecall(t *testing.T) {
 	}
 }
 
+// P8: so does Parse hand on what parsing answers, which has tests of its own.
+func TestParse(t *testing.T) {
+	if tree, errno := Parse("S=aS|;", "aa"); tree != "S(0aS(0aS(1)))" || errno != api.OK {
+		t.Errorf("P8: Parse = %q, %d", tree, errno)
+	}
+	if tree, errno := Parse("S=aS|;", "ab"); tree != "" || errno != api.ErrNot {
+		t.Errorf("P8: Parse = %q, %d", tree, errno)
+	}
+	for _, word := range []string{"aA", "S(1)", strings.Repeat("a", 21), strings.Repeat("b", 21)} {
+		if tree, errno := Parse("S=aS|;", word); tree != "" || errno != api.ErrWord {
+			t.Errorf("P8: Parse of %q = %q, %d", word, tree, errno)
+		}
+	}
+}
+
 type answer struct {
 	errno    api.Errno
 	place    int
@@ -137,6 +152,8 @@ type answer struct {
 	ofMake   api.Errno
 	choices  string
 	ofRecall api.Errno
+	parsed   string
+	ofParse  api.Errno
 }
 
 func ask(grammar string, tree string) answer {
@@ -145,6 +162,7 @@ func ask(grammar string, tree string) answer {
 	a.height, a.ofTree = Height(grammar, tree)
 	a.made, a.ofMake = Make(grammar, "0213", 3, 3)
 	a.choices, a.ofRecall = Recall(grammar, tree, 3, 3)
+	a.parsed, a.ofParse = Parse(grammar, "a")
 	return a
 }
 
@@ -167,7 +185,7 @@ func TestAnswersHangOnArgumentsAlone(t *testing.T) {
 	}
 	fresh := string([]byte("S=aS|;"))
 	for n := 0; n < 100; n++ {
-		if got := ask(fresh, "S(0aS(1))"); got != (answer{api.OK, 0, 2, api.OK, "S(0aS(0aS(1)))", api.OK, "01", api.OK}) {
+		if got := ask(fresh, "S(0aS(1))"); got != (answer{api.OK, 0, 2, api.OK, "S(0aS(0aS(1)))", api.OK, "01", api.OK, "S(0aS(1))", api.OK}) {
 			t.Fatalf("P2: the answer number %d is %v", n, got)
 		}
 	}
