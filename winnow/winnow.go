@@ -5,6 +5,7 @@ import (
 	"winnow/api"
 	"winnow/making"
 	"winnow/parsing"
+	"winnow/reducing"
 	"winnow/rules"
 	"winnow/trees"
 )
@@ -51,5 +52,8 @@ func Parse(grammar string, word string) (string, api.Errno) {
 // Reduce makes a tree smaller, step by step (P9, P10).
 func Reduce(grammar string, tree string, condition string, budget int) (string, int, int, api.Errno) {
 	errno, _ := rules.Check(grammar)
-	return "", 0, 0, errno
+	if errno != api.OK {
+		return "", 0, 0, errno
+	}
+	return reducing.Reduce(grammar, tree, condition, budget)
 }

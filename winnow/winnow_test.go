@@ -62,8 +62,11 @@ func TestAnyArguments(t *testing.T) {
 					t.Errorf("P1: Recall(%.40q, %.40q, %d, %d) = %.40q, %d", grammar, text, n, m, choices, e)
 				}
 			}
-			if way, asked, why, e := Reduce(grammar, text, text, n); e != api.OK && (way != "" || asked != 0 || why != 0) {
-				t.Errorf("P1: Reduce(%.40q, %.40q, .., %d) = %.40q, %d, %d, %d", grammar, text, n, way, asked, why, e)
+			for j := range all {
+				tree, condition := all[j], all[(i*17+j*5)%len(all)]
+				if way, asked, why, e := Reduce(grammar, tree, condition, n); (e == api.OK) == (way == "") || e != api.OK && (asked != 0 || why != 0) {
+					t.Errorf("P1: Reduce(%.40q, %.40q, %.40q, %d) = %.40q, %d, %d, %d", grammar, tree, condition, n, way, asked, why, e)
+				}
 			}
 		}
 	}
@@ -143,6 +146,28 @@ func TestParse(t *testing.T) {
 	}
 }
 
+// P9: so does Reduce hand on what reducing answers, which has tests of its own.
+func TestReduce(t *testing.T) {
+	const grammar, tree = "S=xSy|a;", "S(0xS(0xS(1a)y)y)"
+	if way, asked, why, errno := Reduce(grammar, tree, "xay", 99); !strings.HasPrefix(way, tree+"\n") || !strings.HasSuffix(way, "\nS(0xS(1a)y)") || asked < 2 || asked > 6 || why != api.Done || errno != api.OK {
+		t.Errorf("P9: Reduce = %q, %d, %d, %d", way, asked, why, errno)
+	}
+	if way, asked, why, errno := Reduce(grammar, tree, "xay", 0); way != tree || asked != 0 || why != api.Spent || errno != api.OK {
+		t.Errorf("P9: Reduce = %q, %d, %d, %d", way, asked, why, errno)
+	}
+	for _, c := range []struct {
+		tree, condition string
+		budget          int
+		errno           api.Errno
+	}{
+		{"xxayy", "A", -1, api.ErrTree}, {tree, "A", -1, api.ErrCondition}, {tree, "b", -1, api.ErrArg}, {tree, "b", 99, api.ErrFails},
+	} {
+		if way, asked, why, errno := Reduce(grammar, c.tree, c.condition, c.budget); way != "" || asked != 0 || why != 0 || errno != c.errno {
+			t.Errorf("P9: Reduce of %q, %q, %d = %q, %d, %d, %d", c.tree, c.condition, c.budget, way, asked, why, errno)
+		}
+	}
+}
+
 type answer struct {
 	errno    api.Errno
 	place    int
@@ -154,6 +179,10 @@ type answer struct {
 	ofRecall api.Errno
 	parsed   string
 	ofParse  api.Errno
+	way      string
+	asked    int
+	why      int
+	ofReduce api.Errno
 }
 
 func ask(grammar string, tree string) answer {
@@ -163,6 +192,7 @@ func ask(grammar string, tree string) answer {
 	a.made, a.ofMake = Make(grammar, "0213", 3, 3)
 	a.choices, a.ofRecall = Recall(grammar, tree, 3, 3)
 	a.parsed, a.ofParse = Parse(grammar, "a")
+	a.way, a.asked, a.why, a.ofReduce = Reduce(grammar, tree, "", 9)
 	return a
 }
 
@@ -185,7 +215,7 @@ func TestAnswersHangOnArgumentsAlone(t *testing.T) {
 	}
 	fresh := string([]byte("S=aS|;"))
 	for n := 0; n < 100; n++ {
-		if got := ask(fresh, "S(0aS(1))"); got != (answer{api.OK, 0, 2, api.OK, "S(0aS(0aS(1)))", api.OK, "01", api.OK, "S(0aS(1))", api.OK}) {
+		if got := ask(fresh, "S(0aS(1))"); got != (answer{api.OK, 0, 2, api.OK, "S(0aS(0aS(1)))", api.OK, "01", api.OK, "S(0aS(1))", api.OK, "S(0aS(1))\nS(1)", 1, api.Done, api.OK}) {
 			t.Fatalf("P2: the answer number %d is %v", n, got)
 		}
 	}
